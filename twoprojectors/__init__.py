@@ -1,0 +1,1 @@
+"""Two projectors: a booth with two film machines and the automation that changes between them."""

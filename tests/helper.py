@@ -1,17 +1,22 @@
 """What the tests share: calls by their names, sheets by their parts, and a look into the house."""
 
-from twoprojectors.actions import answer_call
-from twoprojectors.booth import answers
+import unittest
+
+from twoprojectors.booth import answer_call, answers
 from twoprojectors.house import House
 
 FAR = 10 ** 18
 
 NAMES = ("sheet", "shown", "thread", "unthread", "go", "halt", "tick",
-         "seize", "tear", "lampout", "mend", "power")
+         "seize", "tear", "lampout", "mend", "power", "inch", "machine", "house", "screen",
+         "record", "log", "lost", "twice", "plan", "lead", "reel", "free")
 
 # How many numbers each call has; the sheet's text aside.
 SIZES = {"shown": 0, "thread": 3, "unthread": 1, "go": 2, "halt": 0, "tick": 1,
-         "seize": 1, "tear": 1, "lampout": 1, "mend": 1, "power": 0}
+         "seize": 1, "tear": 1, "lampout": 1, "mend": 1, "power": 0, "inch": 2, "machine": 1, "house": 0, "screen": 0,
+         "record": 0, "log": 0, "lost": 0, "twice": 0, "plan": 0, "lead": 1, "reel": 1, "free": 0}
+
+NO_MACHINES = (-1, 2, -2, 3, FAR, -FAR)
 
 TWO_REELS = ("reel 7 frames 20 motor 8 change 14", "reel 3 frames 12 end")
 
@@ -106,3 +111,29 @@ def showing(**parts):
     desk.do("go", 0, 0)
     desk.do("tick", 5)
     return desk
+
+
+def rows_of(answer, size):
+    """The rows of an answer that tells how many there are."""
+    assert len(answer) == 1 + size * answer[0], answer
+    return [tuple(answer[at:at + size]) for at in range(1, len(answer), size)]
+
+
+class CallCase(unittest.TestCase):
+    def refused(self, desk, number, name, *numbers):
+        self.tells(desk, [number], name, *numbers)
+
+    def tells(self, desk, answer, name, *numbers):
+        """The call answers that, and nothing changes."""
+        before = desk.snapshot()
+        self.assertEqual(desk.ask(name, *numbers), answer, (name, numbers))
+        self.assertEqual(desk.snapshot(), before, (name, numbers))
+
+    def changed(self, desk, answer, call, *expected):
+        """The call answers that, and just the named values of the house or of a machine are other ones."""
+        before = desk.snapshot()
+        self.assertEqual(desk.ask(*call), answer)
+        for number, name, value in expected:
+            holder = before if number is None else before["machines"][number]
+            holder[name] = value
+        self.assertEqual(desk.snapshot(), before)

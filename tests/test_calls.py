@@ -2,25 +2,7 @@
 
 import unittest
 
-from tests.helper import FAR, NAMES, SIZES, Desk, ask_all, ask_last, sheet_text, showing
-
-NO_MACHINES = (-1, 2, -2, 3, FAR, -FAR)
-
-
-class CallCase(unittest.TestCase):
-    def refused(self, desk, number, name, *numbers):
-        before = desk.snapshot()
-        self.assertEqual(desk.ask(name, *numbers), [number], (name, numbers))
-        self.assertEqual(desk.snapshot(), before, (name, numbers))
-
-    def changed(self, desk, answer, call, *expected):
-        """The call answers that, and just the named values of the house or of a machine are other ones."""
-        before = desk.snapshot()
-        self.assertEqual(desk.ask(*call), answer)
-        for number, name, value in expected:
-            holder = before if number is None else before["machines"][number]
-            holder[name] = value
-        self.assertEqual(desk.snapshot(), before)
+from tests.helper import FAR, NAMES, NO_MACHINES, SIZES, CallCase, Desk, ask_all, ask_last, sheet_text, showing
 
 
 class NoSheet(CallCase):

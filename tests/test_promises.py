@@ -3,9 +3,7 @@
 import random
 import unittest
 
-from twoprojectors.screen import on_screen
-
-from tests.helper import Desk, sheet_text
+from tests.helper import Desk, rows_of, sheet_text
 
 # up, strike, down, leader, and each reel: frames, motor cue, change cue; the last one: frames
 SHOWS = (
@@ -47,6 +45,27 @@ def frames_of(show):
     return shown
 
 
+def on_screen(desk):
+    answer = desk.ask("screen")
+    return tuple(answer[1:]) if answer[0] == 1 else None
+
+
+def made_show(source):
+    """A show as it comes, with time enough between a change and the next motor cue to thread the reel behind."""
+    up = source.randrange(2, 49)
+    strike = source.choice((0, up - 1, up, up + 1, 48, source.randrange(49)))
+    strike = min(strike, 48)
+    down = source.randrange(49)
+    show = [up, strike, down, 96]
+    for reel in range(source.randrange(6)):
+        motor = down + 2 + source.randrange(40)
+        most = 95 + up - up // 2
+        change = motor + source.choice((max(up, strike), source.randrange(max(up, strike), most + 1)))
+        show.append((change + 1 + source.randrange(30), motor, change))
+    show.append(1 + source.randrange(60))
+    return tuple(show)
+
+
 class Watcher:
     """Ticks a house one by one and looks whether the first point holds."""
 
@@ -54,28 +73,33 @@ class Watcher:
         self.case = case
         self.desk = desk
 
+    def machines(self):
+        return [self.desk.ask("machine", number) for number in (0, 1)]
+
     def tick(self):
-        machines = self.desk.house.machines
-        before = [(machine.phase, machine.motor, machine.place) for machine in machines]
+        before = self.machines()
         self.desk.do("tick", 1)
         self.look()
-        for machine, (phase, motor, place) in zip(machines, before):
-            if machine.douser:
-                self.case.assertEqual((phase, motor), (2, True))
-                self.case.assertEqual((machine.phase, machine.motor), (2, True))
-                self.case.assertEqual(machine.place, place + 1)
-                self.case.assertFalse(machine.seized or machine.torn)
+        for was, machine in zip(before, self.machines()):
+            if machine[5] == 1:
+                self.case.assertEqual(was[2:4], [1, 2])
+                self.case.assertEqual(machine[:2], [was[0], was[1] + 1])
+                self.case.assertEqual(machine[2:8], [1, 2, 1, 1, 0, 0])
 
     def look(self):
-        dousers = [machine.douser for machine in self.desk.house.machines]
-        self.case.assertNotEqual(dousers, [True, True])
+        machines = self.machines()
+        self.case.assertLess(machines[0][5] + machines[1][5], 2)
+        for machine in machines:
+            if machine[5] == 1:
+                self.case.assertEqual((machine[3], machine[6], machine[7]), (2, 0, 0))
 
 
 class WholeShows(unittest.TestCase):
     def show(self, show, first):
         desk = Desk(text_of(show))
         watcher = Watcher(self, desk)
-        leads = leads_of(show)
+        leads = [desk.ask("lead", reel)[0] for reel in range(len(show) - 4)]
+        self.assertEqual(leads, leads_of(show))
         frames = frames_of(show)
         desk.do("thread", first, 0, leads[0])
         desk.do("go", first, 0)
@@ -83,22 +107,30 @@ class WholeShows(unittest.TestCase):
         start = 1 + max(show[0], show[1])
         for tick in range(1, start + len(frames)):
             # A reel goes onto the machine that isn't active as soon as that one stands.
-            if threaded < len(leads) and desk.house.machines[1 - desk.house.active].reel != threaded - 1:
-                if desk.ask("thread", 1 - desk.house.active, threaded, leads[threaded]) == [0]:
-                    threaded += 1
+            other = 1 - desk.house.active
+            if threaded < len(leads) and desk.machine(other).reel != threaded - 1 and desk.ask("free")[other] == 1:
+                desk.do("thread", other, threaded, leads[threaded])
+                threaded += 1
             watcher.tick()
-            seen = on_screen(desk.house)
-            self.assertEqual(seen, frames[tick - start] if tick >= start else None, (show, tick))
+            self.assertEqual(on_screen(desk), frames[tick - start] if tick >= start else None, (show, tick))
         self.assertEqual(desk.do("tick", 1), [start + len(frames), 4])
         desk.do("tick", 9)
-        self.assertEqual(desk.house.dark_ticks, 0)
-        self.assertEqual(desk.house.runs, self.plan(show, start))
+        self.behind_it(desk, start, show)
 
-    def plan(self, show, start):
+    def behind_it(self, desk, start, show):
+        self.assertEqual(desk.ask("house")[1:2] + desk.ask("house")[4:], [4, 0, 0])
+        self.assertEqual(desk.ask("lost"), [0])
+        self.assertEqual(desk.ask("twice"), [0])
+        runs = rows_of(desk.ask("record"), 4)
+        self.assertEqual(runs, self.runs(show, start))
+        plan = [tick for run in runs for tick in (run[0], run[0] + run[3])]
+        self.assertEqual(desk.ask("plan"), plan, show)
+
+    def runs(self, show, start):
         runs = []
         for reel, parts in enumerate(show[4:]):
             last = parts - 1 if isinstance(parts, int) else parts[2]
-            runs.append([start, reel, 0, last])
+            runs.append((start, reel, 0, last))
             start += last + 1
         return runs
 
@@ -106,6 +138,11 @@ class WholeShows(unittest.TestCase):
         for show in SHOWS:
             for first in (0, 1):
                 self.show(show, first)
+
+    def test_shows_as_they_come(self):
+        source = random.Random(20)
+        for turn in range(60):
+            self.show(made_show(source), turn % 2)
 
 
 class Failures(unittest.TestCase):
@@ -115,7 +152,7 @@ class Failures(unittest.TestCase):
         number = source.randrange(2)
         return source.choice((
             ("thread", number, source.randrange(reels), source.randrange(-9, 9)),
-            ("unthread", number), ("go", number, source.randrange(12)), ("go", number, 0), ("halt",),
+            ("unthread", number), ("inch", number, source.randrange(-9, 9)), ("go", number, source.randrange(12)), ("go", number, 0), ("halt",),
             ("seize", number), ("tear", number), ("lampout", number), ("mend", number), ("mend", number), ("power",)))
 
     def show(self, seed):
@@ -137,7 +174,7 @@ class Failures(unittest.TestCase):
                 target = (desk.machine(call[1]).reel, call[2])
             for tick in range(source.choice((0, 0, 1, 3, 10, 40))):
                 watcher.tick()
-                seen = on_screen(desk.house)
+                seen = on_screen(desk)
                 if seen is not None:
                     allowed = [target]
                     if last is not None:

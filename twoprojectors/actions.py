@@ -1,42 +1,43 @@
-"""The calls: each takes the house and its numbers, and answers a list of numbers."""
+"""Calls 0 to 12: each takes the house and its numbers, and answers a list of numbers."""
 
 from twoprojectors.house import WAITS
 from twoprojectors.house import is_going
+from twoprojectors.house import is_machine
 from twoprojectors.house import stop
 from twoprojectors.machine import NO_REEL
 from twoprojectors.machine import STANDS
 from twoprojectors.machine import halt_motor
 from twoprojectors.machine import put_off
 from twoprojectors.machine import put_on
+from twoprojectors.refusals import GOING
+from twoprojectors.refusals import NOT_STANDING
+from twoprojectors.refusals import OUTSIDE
+from twoprojectors.refusals import OUT_OF_RANGE
+from twoprojectors.refusals import REEL_ELSEWHERE
+from twoprojectors.refusals import WITHOUT_REEL
 from twoprojectors.screen import tick_house
 from twoprojectors.sheet import Sheet
 from twoprojectors.sheet import fill_sheet
+from twoprojectors.sheet import is_reel
 from twoprojectors.sheet import is_text
 from twoprojectors.sheet import last_frame
 from twoprojectors.sheet import shown_sheet
-
-OUT_OF_RANGE = -1
-NO_SHEET = -2
-GOING = -3
-NOT_STANDING = -4
-REEL_ELSEWHERE = -5
-WITHOUT_REEL = -6
 
 POWER_LOST = 5
 HALTED = 6
 
 MOST_FRAME = 2000
 MOST_TICKS = 500
-
-SHEET = 0
-
-
-def is_machine(number):
-    return number == 0 or number == 1
+MOST_INCH = 96
 
 
-def is_busy(house, number):
-    return is_going(house) and house.active == number
+# Why the film of this machine can't be handled, or 0 if it can.
+def film_refusal(house, number):
+    if is_going(house) and house.active == number:
+        return GOING
+    if house.machines[number].phase != STANDS:
+        return NOT_STANDING
+    return 0
 
 
 def call_sheet(house, text):
@@ -58,7 +59,7 @@ def call_shown(house, numbers):
 
 
 def is_threading(sheet, reel, lead):
-    if reel < 0 or reel >= len(sheet.reels):
+    if not is_reel(sheet, reel):
         return False
     return lead >= 1 - sheet.reels[reel].frames and lead <= sheet.leader
 
@@ -69,11 +70,10 @@ def call_thread(house, numbers):
     lead = numbers[2]
     if not is_machine(number) or not is_threading(house.sheet, reel, lead):
         return [OUT_OF_RANGE]
-    if is_busy(house, number):
-        return [GOING]
+    refusal = film_refusal(house, number)
+    if refusal != 0:
+        return [refusal]
     machine = house.machines[number]
-    if machine.phase != STANDS:
-        return [NOT_STANDING]
     if house.machines[1 - number].reel == reel:
         return [REEL_ELSEWHERE]
     machine.reel = reel
@@ -86,11 +86,10 @@ def call_unthread(house, numbers):
     number = numbers[0]
     if not is_machine(number):
         return [OUT_OF_RANGE]
-    if is_busy(house, number):
-        return [GOING]
+    refusal = film_refusal(house, number)
+    if refusal != 0:
+        return [refusal]
     machine = house.machines[number]
-    if machine.phase != STANDS:
-        return [NOT_STANDING]
     if machine.reel == NO_REEL:
         return [WITHOUT_REEL]
     machine.reel = NO_REEL
@@ -187,8 +186,26 @@ def call_power(house, numbers):
     return [0]
 
 
+def call_inch(house, numbers):
+    number = numbers[0]
+    more = numbers[1]
+    if not is_machine(number) or more < -MOST_INCH or more > MOST_INCH:
+        return [OUT_OF_RANGE]
+    refusal = film_refusal(house, number)
+    if refusal != 0:
+        return [refusal]
+    machine = house.machines[number]
+    if machine.reel == NO_REEL:
+        return [WITHOUT_REEL]
+    place = machine.place + more
+    if place < -house.sheet.leader or place > house.sheet.reels[machine.reel].frames:
+        return [OUTSIDE]
+    machine.place = place
+    return [0, place]
+
+
 # A call's place in this tuple is its number.
-CALLS = (
+ACTIONS = (
     call_sheet,
     call_shown,
     call_thread,
@@ -201,10 +218,9 @@ CALLS = (
     call_lampout,
     call_mend,
     call_power,
+    call_inch,
 )
 
 
-def answer_call(house, call, numbers):
-    if call != SHEET and house.sheet is None:
-        return [NO_SHEET]
-    return CALLS[call](house, numbers)
+def answer_action(house, call, numbers):
+    return ACTIONS[call](house, numbers)

@@ -35,6 +35,10 @@ class House:
         self.dark_ticks = 0
 
 
+def is_machine(number):
+    return number == 0 or number == 1
+
+
 def is_going(house):
     return house.mode == WAITS or house.mode == RUNS
 

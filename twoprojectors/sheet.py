@@ -1,4 +1,4 @@
-"""Cue sheets: how they are read from bytes and shown as bytes, and the leads of their reels."""
+"""Cue sheets: how they are read from bytes and shown as bytes, the leads of their reels, and the plan of a show."""
 
 LINE_END = 10
 BLANK = 32
@@ -68,6 +68,28 @@ def first_lead(sheet):
 
 def lead_behind(sheet, reel):
     return 1 + sheet.up // 2 + (reel.change - reel.motor - sheet.up)
+
+
+def is_reel(sheet, number):
+    return number >= 0 and number < len(sheet.reels)
+
+
+def lead_of(sheet, number):
+    if number == 0:
+        return first_lead(sheet)
+    return lead_behind(sheet, sheet.reels[number - 1])
+
+
+# For each reel the ticks of its first and its last frame to be shown: with right leads one frame follows another.
+def plan_of(sheet):
+    ticks = []
+    first = 1 + max(sheet.up, sheet.strike)
+    for reel in sheet.reels:
+        last = first + last_frame(reel)
+        ticks.append(first)
+        ticks.append(last)
+        first = last + 1
+    return ticks
 
 
 def codes_of(text):
